@@ -1,0 +1,1 @@
+"""Lackword: a moving strip of letters, and the words it lacks."""
