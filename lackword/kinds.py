@@ -24,6 +24,10 @@ def is_word(thing, kinds, most):
     return isinstance(thing, str) and len(thing) <= most and has_only(thing, kinds)
 
 
+def is_letter(thing, kinds):
+    return is_word(thing, kinds, 1) and len(thing) == 1
+
+
 def need_kinds(thing):
     if not is_kinds(thing):
         raise NoKinds("kinds are one to four unlike small letters, rising")
@@ -31,4 +35,9 @@ def need_kinds(thing):
 
 def need_word(thing, kinds, most):
     if not is_word(thing, kinds, most):
+        raise NoWord(thing)
+
+
+def need_letter(thing, kinds):
+    if not is_letter(thing, kinds):
         raise NoWord(thing)

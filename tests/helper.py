@@ -18,6 +18,10 @@ ANY_THINGS = WRONG_THINGS + [
     "", "a", "ab", 10 ** 5000, -(10 ** 5000), [10 ** 5000], (10 ** 5000,), {10 ** 5000: [10 ** 5000]},
 ]
 
+# None is a whole number from 0 on with fewer than a hundred figures.
+NO_NUMBERS = [thing for thing in WRONG_THINGS if isinstance(thing, bool) or not isinstance(thing, int)]
+NO_NUMBERS += [-1, -7, 10 ** 99, -(10 ** 99), "", "0", "a", "ab", [0], (0,), {0: 0}]
+
 
 def all_texts(kinds, most):
     """Every text of these kinds with at most so many letters, in the order of words."""
@@ -41,3 +45,32 @@ def mixed_text(kinds, length):
         state = (state * 1103515245 + 12345) % 2 ** 31
         letters.append(kinds[(state >> 16) % len(kinds)])
     return "".join(letters)
+
+
+def edge_texts():
+    """Texts of four kinds with up to 40 letters: the bounds, one letter repeated, short texts repeated, mixed ones."""
+    forty = mixed_text("abcd", 40)
+    return [
+        "", "a", "d", "ab", "abcd", "dcba", "a" * 39, "a" * 40, "ab" * 20, "abc" * 13, "aab" * 13 + "a", "abcd" * 10,
+        "a" * 39 + "b", "b" + "a" * 39, "a" * 20 + "b" * 20, forty, forty[:39], forty[:20] * 2, mixed_text("ab", 40),
+        mixed_text("abd", 37), "abaababaabaababaababaabaababaabaababaaba"[:40], forty[:13] + "c" + forty[:13],
+    ]
+
+
+def lacking_of(text, kinds):
+    """The missing words of a text of any length, from all its pieces."""
+    pieces = {text[start:end] for start in range(len(text) + 1) for end in range(start, len(text) + 1)}
+    longer = {piece + letter for piece in pieces for letter in kinds}
+    found = [word for word in longer if word not in pieces and word[1:] in pieces]
+    return sorted(found, key=lambda word: (len(word), word))
+
+
+def check_own_list(test, ask):
+    """A list that was told is changed, then asked for again."""
+    first = ask()
+    kept = list(first)
+    first.append("zz")
+    first.reverse()
+    test.assertEqual(ask(), kept)
+    first.clear()
+    test.assertEqual(ask(), kept)

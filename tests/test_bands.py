@@ -4,7 +4,7 @@ import unittest
 
 from lackword.bands import Band, Plain
 from lackword.errors import NoKinds, NoWord
-from tests.helper import WRONG_THINGS, all_texts, lacking_by_definition, mixed_text
+from tests.helper import WRONG_THINGS, all_texts, check_own_list, lacking_by_definition, lacking_of, mixed_text
 
 FORTY = mixed_text("abcd", 40)
 
@@ -142,11 +142,7 @@ class TestLacking(unittest.TestCase):
         self.assertEqual(Plain("a" * 40, "a").lacking(), ["a" * 41])
         self.assertEqual(Plain("a" * 40, "abcd").lacking(), ["b", "c", "d", "a" * 41])
         for text in (FORTY, FORTY[:20] * 2, "ab" * 20, "a" * 39 + "b"):
-            heads = {text[start:end] for start in range(41) for end in range(start, 41)}
-            longer = {head + letter for head in heads for letter in "abcd"}
-            expected = [word for word in longer if word not in text and word[1:] in text]
-            expected.sort(key=lambda word: (len(word), word))
-            self.assertEqual(Plain(text, "abcd").lacking(), expected)
+            self.assertEqual(Plain(text, "abcd").lacking(), lacking_of(text, "abcd"))
 
     def test_reach(self):
         for text in ("", "a", "abab", FORTY):
@@ -159,13 +155,7 @@ class TestListsTold(unittest.TestCase):
     def test_lists_are_new_ones_and_the_askers_own(self):
         strip = Plain("abba", "ab")
         for ask in (strip.lacking, lambda: strip.words(0), lambda: strip.words(2)):
-            first = ask()
-            kept = list(first)
-            first.append("zzz")
-            first.reverse()
-            self.assertEqual(ask(), kept)
-            first.clear()
-            self.assertEqual(ask(), kept)
+            check_own_list(self, ask)
 
     def test_the_same_question_has_the_same_answer(self):
         strip = Plain(FORTY, "abcd")

@@ -30,6 +30,26 @@ NODES_OUT = (
     ast.AsyncFunctionDef, ast.AsyncFor, ast.AsyncWith, ast.Import, ast.SetComp, ast.DictComp, ast.GeneratorExp,
     ast.NamedExpr, ast.Starred, ast.Div, ast.AnnAssign,
 )
+WALKED_AT_ONCE = {"zip", "enumerate", "reversed", "range", "items", "keys", "values"}
+WALKERS = set("list tuple dict sorted sum any all enumerate zip min max join".split())
+KEYWORDS = {
+    "sorted": {"key", "reverse"}, "min": {"key", "default"}, "max": {"key", "default"}, "sum": {"start"},
+    "enumerate": {"start"}, "zip": {"strict"},
+}
+PYTHONS_OWN = set().union(*(dir(kind) for kind in (str, int, list, tuple, dict, set, bytes)))
+BETWEEN_SETS = (ast.Sub, ast.BitAnd, ast.BitOr, ast.BitXor)
+MAY_BE_METHODS = PYTHON_METHODS | {"add", "discard"}
+MAY_BE_VALUES = set("count index title find get join lower upper split strip copy add".split())
+
+
+def called_name(node):
+    if not isinstance(node, ast.Call):
+        return None
+    return node.func.attr if isinstance(node.func, ast.Attribute) else node.func.id
+
+
+def parents(tree):
+    return {child: node for node in ast.walk(tree) for child in ast.iter_child_nodes(node)}
 
 
 def walk(kind):
@@ -141,6 +161,53 @@ class TestForm(unittest.TestCase):
         self.assertEqual(called - methods - PYTHON_METHODS, set())
         dunders = {method for method in methods if method.startswith("__")}
         self.assertLessEqual(dunders, OWN_DUNDERS)
+
+    def test_own_methods_and_values_are_called_unlike_pythons(self):
+        for name, node in walk(ast.ClassDef):
+            methods = {part.name for part in node.body if isinstance(part, ast.FunctionDef)}
+            self.assertEqual(len(methods), len([part for part in node.body if isinstance(part, ast.FunctionDef)]))
+            self.assertEqual((methods - OWN_DUNDERS) & (PYTHONS_OWN - MAY_BE_METHODS), set(), (name, node.name))
+        for name, node in walk(ast.Attribute):
+            self.assertFalse(node.attr.startswith("_") and node.attr != "__init__", (name, node.lineno))
+            if isinstance(node.ctx, ast.Store):
+                self.assertNotIn(node.attr, PYTHONS_OWN - MAY_BE_VALUES, (name, node.lineno))
+
+    def test_the_top_of_a_file_and_parameters(self):
+        for name, tree in TREES.items():
+            self.assertTrue(ast.get_docstring(tree), name)
+            for node in tree.body[1:]:
+                self.assertIsInstance(node, (ast.ImportFrom, ast.FunctionDef, ast.ClassDef, ast.Assign), name)
+        for name, node in walk((ast.FunctionDef, ast.Lambda)):
+            signs = node.args
+            self.assertEqual((signs.vararg, signs.kwarg, signs.kwonlyargs, signs.posonlyargs), (None, None, [], []))
+
+    def test_keywords(self):
+        for name, node in walk(ast.Call):
+            used = {part.arg for part in node.keywords}
+            self.assertLessEqual(used, KEYWORDS.get(called_name(node), set()), (name, node.lineno))
+
+    def test_what_is_walked_at_once(self):
+        for name, tree in TREES.items():
+            above = parents(tree)
+            for node in ast.walk(tree):
+                if called_name(node) not in WALKED_AT_ONCE:
+                    continue
+                outer = above[node]
+                walked = isinstance(outer, (ast.For, ast.comprehension)) and outer.iter is node
+                self.assertTrue(walked or called_name(outer) in WALKERS, (name, node.lineno))
+
+    def test_sets_are_not_kept(self):
+        for name, tree in TREES.items():
+            above = parents(tree)
+            for node in ast.walk(tree):
+                self.assertNotIsInstance(node, ast.Set, name)
+                if called_name(node) not in ("set", "frozenset"):
+                    continue
+                outer = above[node]
+                while isinstance(outer, ast.BinOp) and isinstance(outer.op, BETWEEN_SETS):
+                    outer = above[outer]
+                held = isinstance(outer, ast.Compare) or called_name(outer) in ("sorted", "len")
+                self.assertTrue(held, (name, node.lineno))
 
     def test_is_stands_beside_none_true_and_false(self):
         for name, node in walk(ast.Compare):

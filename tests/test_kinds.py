@@ -6,7 +6,7 @@ import string
 import unittest
 
 from lackword.errors import NoKinds, NoWord
-from lackword.kinds import is_kinds, is_word, need_kinds, need_word
+from lackword.kinds import is_kinds, is_letter, is_word, need_kinds, need_letter, need_word
 from tests.helper import WRONG_THINGS, all_texts
 
 # Texts that are words over some kinds, but tell no kinds.
@@ -96,6 +96,18 @@ class TestNeedWord(unittest.TestCase):
             with self.subTest(thing=thing), self.assertRaises(NoWord) as caught:
                 need_word(thing, "ab", 4)
             self.assertIs(caught.exception.word, thing)
+
+    def test_letters_are_words_of_one_letter(self):
+        for kinds in ("a", "abd"):
+            for text in list(all_texts("abcd", 2)) + WRONG_THINGS:
+                letter = isinstance(text, str) and len(text) == 1 and text in kinds
+                self.assertIs(is_letter(text, kinds), letter)
+                if letter:
+                    self.assertIsNone(need_letter(text, kinds))
+                    continue
+                with self.subTest(text=text), self.assertRaises(NoWord) as caught:
+                    need_letter(text, kinds)
+                self.assertIs(caught.exception.word, text)
 
     def test_nothing_handed_in_is_changed(self):
         things = copy.deepcopy(WRONG_THINGS)
