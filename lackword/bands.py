@@ -27,15 +27,20 @@ class Band:
     def text(self):
         return self.own_text
 
+    def laid_out(self, length):
+        # The letters in which words of this length stand just where they
+        # stand in the band; a ring has to be cut open for it.
+        return self.own_text
+
     def words(self, length):
-        return pieces(self.own_text, length)
+        return pieces(self.laid_out(length), length)
 
     def stands(self, word):
         return self.place_of(word) is not None
 
     def place_of(self, word):
         need_word(word, self.own_kinds, MOST_ASKED)
-        found = places(self.own_text, word)
+        found = places(self.laid_out(len(word)), word)
         return found[0] if found else None
 
     def reach(self):

@@ -23,7 +23,9 @@ def spots_behind(text, spots, letter):
 
 
 def rooms_of(text, kinds):
-    """Room by room a tuple: the first word that leads to it, and its ways as a dict from letters to rooms."""
+    # Room by room a tuple is told: the first word that leads to the room,
+    # and its ways as a dict from letters to rooms. Rooms are numbered as one
+    # comes to them, so the word by which one comes is the first.
     spots = [first_spots(text)]
     words = [""]
     numbers = {spots[0]: 0}

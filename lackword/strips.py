@@ -7,12 +7,11 @@ from lackword.lacking import lacks
 from lackword.places import in_order
 
 # In these the lesser text is the longer one without its first or its last
-# letter. A word that stands in the longer one alone begins or ends it, and
-# stands at one place.
+# letter. A fresh word is one that stands in the longer text alone: it begins
+# or ends this text, and stands at one place.
 
 
 def fresh_words(lesser, longer):
-    """The words that stand in the longer text alone, in order."""
     edges = []
     for size in range(1, len(longer) + 1):
         edges.append(longer[:size])
@@ -21,14 +20,15 @@ def fresh_words(lesser, longer):
 
 
 def filled(lesser, longer, reason):
-    """The one missing word of the lesser text that stands in the longer one, as a list of a tuple."""
-    # Of the fresh words the first one alone has no fresh word inside it.
+    # A missing word of the lesser text that stands in the longer one is a
+    # fresh word without another one inside it: the first one alone.
     word = fresh_words(lesser, longer)[0]
     return [(word, (reason, longer.find(word)))]
 
 
 def opened(lesser, longer, kinds, reason):
-    """The missing words of the longer text alone: each is a fresh word and a letter."""
+    # A missing word of the longer text that the lesser one does not have is
+    # a fresh word and one letter more, at either end.
     found = {}
     for shorter in fresh_words(lesser, longer):
         told = (reason, shorter, longer.find(shorter))
@@ -84,9 +84,9 @@ class Strip(Band):
         return self.change(lesser, came, went)
 
     def change(self, text, came, went):
-        gone = [word for word, reason in went]
+        gone = [told[0] for told in went]
         kept = [word for word in self.own_lacking if word not in gone]
-        self.own_lacking = in_order(kept + [word for word, reason in came])
+        self.own_lacking = in_order(kept + [told[0] for told in came])
         self.own_text = text
         return (came, went)
 

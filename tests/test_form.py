@@ -103,6 +103,9 @@ class TestForm(unittest.TestCase):
             self.assertEqual(node.finalbody, [], (name, node.lineno))
         for name, node in walk(ast.Assign):
             self.assertEqual(len(node.targets), 1, (name, node.lineno))
+            self.assertIsInstance(node.targets[0], (ast.Name, ast.Attribute, ast.Subscript), (name, node.lineno))
+        for name, node in walk(ast.Expr):
+            self.assertTrue(isinstance(node.value, ast.Call) or node is TREES[name].body[0], (name, node.lineno))
 
     def test_constants(self):
         for name, node in walk(ast.Constant):
