@@ -2,6 +2,8 @@
 
 import itertools
 
+from lackword.strips import Strip
+
 # Of every sort that may be handed in where a refusal is told; none tells
 # kinds, none is a word over any kinds.
 WRONG_THINGS = [
@@ -63,6 +65,27 @@ def lacking_of(text, kinds):
     longer = {piece + letter for piece in pieces for letter in kinds}
     found = [word for word in longer if word not in pieces and word[1:] in pieces]
     return sorted(found, key=lambda word: (len(word), word))
+
+
+def made(text, kinds):
+    """A strip that moves, to which these letters were put."""
+    strip = Strip(kinds)
+    for letter in text:
+        strip.put(letter)
+    return strip
+
+
+def moved_to(text, kinds):
+    """A strip with these letters that had another letter ahead of them."""
+    strip = made(kinds[-1] + text[:1], kinds)
+    strip.drop()
+    for letter in text[1:]:
+        strip.put(letter)
+    return strip
+
+
+def state(strip):
+    return (strip.text(), strip.kinds(), strip.lacking(), strip.deeds())
 
 
 def check_own_list(test, ask):

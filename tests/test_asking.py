@@ -7,19 +7,7 @@ from lackword.bands import Plain
 from lackword.errors import NoLength, NoWord
 from lackword.lacking import inside, is_lacking
 from lackword.strips import Strip
-from tests.helper import NO_NUMBERS, WRONG_THINGS, all_texts, edge_texts, lacking_of, mixed_text
-
-
-def moved_to(text, kinds):
-    """A strip with these letters that had another letter ahead of them."""
-    strip = Strip(kinds)
-    strip.put(kinds[-1])
-    for letter in text[:1]:
-        strip.put(letter)
-    strip.drop()
-    for letter in text[1:]:
-        strip.put(letter)
-    return strip
+from tests.helper import NO_NUMBERS, WRONG_THINGS, all_texts, edge_texts, lacking_of, mixed_text, moved_to
 
 
 def both(text, kinds):

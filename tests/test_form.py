@@ -30,6 +30,7 @@ NODES_OUT = (
     ast.AsyncFunctionDef, ast.AsyncFor, ast.AsyncWith, ast.Import, ast.SetComp, ast.DictComp, ast.GeneratorExp,
     ast.NamedExpr, ast.Starred, ast.Div, ast.AnnAssign,
 )
+PLAIN_PARTS = (ast.Constant, ast.Name, ast.Load, ast.List, ast.Tuple, ast.Dict, ast.UnaryOp, ast.USub)
 WALKED_AT_ONCE = {"zip", "enumerate", "reversed", "range", "items", "keys", "values"}
 WALKERS = set("list tuple dict sorted sum any all enumerate zip min max join".split())
 KEYWORDS = {
@@ -183,6 +184,29 @@ class TestForm(unittest.TestCase):
         for name, node in walk((ast.FunctionDef, ast.Lambda)):
             signs = node.args
             self.assertEqual((signs.vararg, signs.kwarg, signs.kwonlyargs, signs.posonlyargs), (None, None, [], []))
+
+    def test_values_of_the_top_are_plain(self):
+        for name, tree in TREES.items():
+            above = set()
+            for node in tree.body:
+                if isinstance(node, ast.FunctionDef):
+                    above.add(node.name)
+                if not isinstance(node, ast.Assign):
+                    continue
+                self.assertIsInstance(node.targets[0], ast.Name, (name, node.lineno))
+                for part in ast.walk(node.value):
+                    self.assertIsInstance(part, PLAIN_PARTS, (name, node.lineno))
+                    if isinstance(part, ast.Name):
+                        self.assertIn(part.id, above, (name, node.lineno))
+                    if isinstance(part, (ast.List, ast.Dict)):
+                        self.assertIs(part, node.value, (name, node.lineno))
+
+    def test_names_of_the_top_are_bound_once(self):
+        for name, tree in TREES.items():
+            bound = [node.targets[0].id for node in tree.body if isinstance(node, ast.Assign)]
+            bound += [node.name for node in tree.body if isinstance(node, (ast.FunctionDef, ast.ClassDef))]
+            bound += [part.name for node in tree.body if isinstance(node, ast.ImportFrom) for part in node.names]
+            self.assertEqual(len(bound), len(set(bound)), name)
 
     def test_keywords(self):
         for name, node in walk(ast.Call):

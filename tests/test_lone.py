@@ -5,19 +5,11 @@ import unittest
 from lackword.bands import Plain
 from lackword.errors import NoPlace
 from lackword.lone import doubles, lone, lone_all
-from lackword.strips import Strip
-from tests.helper import NO_NUMBERS, all_texts, check_own_list, edge_texts, mixed_text
-
-
-def moving(text, kinds):
-    strip = Strip(kinds)
-    for letter in text:
-        strip.put(letter)
-    return strip
+from tests.helper import NO_NUMBERS, all_texts, check_own_list, edge_texts, made, mixed_text
 
 
 def both(text, kinds):
-    return [Plain(text, kinds), moving(text, kinds)]
+    return [Plain(text, kinds), made(text, kinds)]
 
 
 def starts(text, word):
@@ -92,7 +84,7 @@ class TestLone(unittest.TestCase):
             self.assertEqual(lone(strip, 1), (0, "ab"))
 
     def test_a_strip_that_has_moved(self):
-        strip = moving("abaab", "ab")
+        strip = made("abaab", "ab")
         strip.drop()
         self.assertEqual(lone_all(strip), [lone_by_definition("baab", place) for place in range(4)])
         strip.back()

@@ -7,20 +7,9 @@ from lackword.bands import Band, Plain
 from lackword.errors import Bare, Full, NoBack, NoKinds, NoWord
 from lackword.places import places
 from lackword.strips import Strip
-from tests.helper import WRONG_THINGS, all_texts, check_own_list, edge_texts, lacking_of, mixed_text
+from tests.helper import WRONG_THINGS, all_texts, check_own_list, edge_texts, lacking_of, made, mixed_text, state
 
 FORTY = mixed_text("abcd", 40)
-
-
-def made(text, kinds):
-    strip = Strip(kinds)
-    for letter in text:
-        strip.put(letter)
-    return strip
-
-
-def state(strip):
-    return (strip.text(), strip.kinds(), strip.lacking(), strip.deeds())
 
 
 def expected_change(before, after, kinds):
